@@ -1,0 +1,1 @@
+"""A sheet of shapes: plane geometry in whole numbers."""

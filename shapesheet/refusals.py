@@ -1,0 +1,8 @@
+"""The numbers by which a call is refused."""
+
+NO_SUCH_PLACE = -1
+EMPTY_PLACE = -2
+BAD_RADIUS = -4
+BAD_COUNT = -5
+OUT_OF_RANGE = -6
+NO_SKELETON = -7
