@@ -15,6 +15,11 @@ def squared_distance(a, b):
     return dx * dx + dy * dy
 
 
+def low_left(point):
+    """Order points by height, those of one height from left to right."""
+    return (point[1], point[0])
+
+
 def all_in_range(points):
     """Tell whether each coordinate of the points is in range."""
     for x, y in points:

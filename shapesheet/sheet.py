@@ -2,6 +2,7 @@
 
 PLACES = 64
 GREATEST_RADIUS = 1000000000
+GREATEST_DISTANCE = 1000000000
 
 
 class Shape:
@@ -30,7 +31,16 @@ class Sheet:
         """Let the place hold the shape, or nothing if that is None."""
         self.places[place] = shape
 
+    def filled(self):
+        """Answer the numbers of all places that hold a shape, in order."""
+        return [place for place in range(PLACES) if self.places[place] is not None]
+
 
 def is_radius(number):
     """Tell whether a shape may have this radius."""
     return 0 <= number <= GREATEST_RADIUS
+
+
+def is_distance(number):
+    """Tell whether shapes may be asked to keep this distance."""
+    return 1 <= number <= GREATEST_DISTANCE

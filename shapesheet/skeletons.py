@@ -1,6 +1,6 @@
 """Skeletons, each told by its points: one of a spot, two of a bar, three and more of a polygon."""
 
-from shapesheet.points import left_turn
+from shapesheet.points import left_turn, low_left
 from shapesheet.segments import segments_meet, turns_back
 
 
@@ -43,11 +43,6 @@ def others_part(points):
             if segments_meet(sides[i][0], sides[i][1], sides[j][0], sides[j][1]):
                 return False
     return True
-
-
-def low_left(point):
-    """Order points by height, those of one height from left to right."""
-    return (point[1], point[0])
 
 
 def in_form(points):

@@ -65,6 +65,55 @@ def dist(i, j):
     return [12, i, j]
 
 
+def far(i, j):
+    return [13, i, j]
+
+
+def touch(i, j):
+    return [14, i, j]
+
+
+def apart(i, j, c):
+    return [15, i, j, c]
+
+
+def point(place, x, y):
+    return [16, place, x, y]
+
+
+def inside(i, j, m):
+    return [17, i, j, m]
+
+
+def hull(to, places):
+    return [18, to, len(places)] + list(places)
+
+
+def summed(i, j, to):
+    return [19, i, j, to]
+
+
+def near(place):
+    return [20, place]
+
+
+def close(c):
+    return [21, c]
+
+
+def cover(places):
+    return [22, len(places)] + list(places)
+
+
+def triangles(place):
+    return [23, place]
+
+
+def filled():
+    """The call all."""
+    return [24]
+
+
 def joined(calls):
     """One list of all the calls, one behind another."""
     return [number for call in calls for number in call]
@@ -100,6 +149,15 @@ def last(*calls):
 def whole_sheet():
     """Calls that answer all that a sheet holds."""
     return [shape(place) for place in range(64)]
+
+
+def refused(start, call):
+    """The answer to a call that is to be refused, checked to be a refusal that has changed nothing."""
+    before = ask(*start, *whole_sheet())[len(start):]
+    answered = ask(*start, call, *whole_sheet())[len(start):]
+    if len(answered[0]) != 1 or answered[0][0] >= 0 or answered[1:] != before:
+        raise AssertionError(f"{call} answers {answered[0]}, or has changed the sheet")
+    return answered[0][0]
 
 
 def pairs(numbers):
@@ -223,3 +281,92 @@ def form_by_trial(points):
             turns = [order[k:] + order[:k] for k in range(len(order))]
             return min(turns, key=lambda t: (t[0][1], t[0][0]))
     raise AssertionError(f"no area: {points}")
+
+
+def where_by_fractions(r, points, p):
+    """The answer of point, straight from the document's words."""
+    n, d = dist_by_fractions(points, [p])
+    away = Fraction(n, d)
+    if away > r * r:
+        return 0
+    if r > 0:
+        return 1 if away == r * r else 2
+    return 1 if any(square_to_segment(p, a, b) == 0 for a, b in segments(points)) else 2
+
+
+def inside_by_fractions(r, points, polygon, m):
+    """The answer of inside: each told point enclosed, and no side of the polygon within r + m of the skeleton."""
+    for p in points:
+        if where_by_fractions(0, polygon, p) != 2:
+            return 0
+    for a, b in segments(polygon):
+        n, d = dist_by_fractions(points, [a, b])
+        if Fraction(n, d) < (r + m) ** 2:
+            return 0
+    return 1
+
+
+def hull_by_wrapping(points):
+    """The hull of points in its form, corner by corner round them."""
+    points = sorted(set(points), key=lambda p: (p[1], p[0]))
+    corners = [points[0]]
+    while len(points) > 1:
+        at = corners[-1]
+        onwards = None
+        for p in points:
+            if p == at:
+                continue
+            turns = 0 if onwards is None else cross(minus(onwards, at), minus(p, at))
+            farther = onwards is None or dot(minus(p, at), minus(p, at)) > dot(minus(onwards, at), minus(onwards, at))
+            if turns < 0 or turns == 0 and farther:
+                onwards = p
+        if onwards == corners[0]:
+            break
+        corners.append(onwards)
+    return corners
+
+
+def sums(points, others):
+    """All sums of a point of the one list and a point of the other."""
+    return [(p[0] + q[0], p[1] + q[1]) for p in points for q in others]
+
+
+def cover_by_cells(boxes):
+    """The area that boxes (least x, least y, greatest x, greatest y) cover, cell by cell between all their edges."""
+    xs = sorted({x for box in boxes for x in (box[0], box[2])})
+    ys = sorted({y for box in boxes for y in (box[1], box[3])})
+    area = 0
+    for left, right in zip(xs, xs[1:]):
+        for low, high in zip(ys, ys[1:]):
+            if any(b[0] <= left and right <= b[2] and b[1] <= low and high <= b[3] for b in boxes):
+                area += (right - left) * (high - low)
+    return area
+
+
+def box_corners(left, low, right, high):
+    """The numbers of a box for put, in its form."""
+    return [left, low, right, low, right, high, left, high]
+
+
+def in_corners(p, a, b, c):
+    """Whether a point lies in a triangle or on its rim, whichever way round it is told."""
+    turns = [cross(minus(v, u), minus(p, u)) for u, v in ((a, b), (b, c), (c, a))]
+    return min(turns) >= 0 or max(turns) <= 0
+
+
+def triangles_by_words(points):
+    """The answer of triangles to a polygon in its form, straight from the document's words."""
+    left = list(range(len(points)))
+    told = []
+    while len(left) > 3:
+        ears = []
+        for k, b in enumerate(left):
+            a, c = left[k - 1], left[(k + 1) % len(left)]
+            turn_at = cross(minus(points[b], points[a]), minus(points[c], points[b]))
+            others = [points[n] for n in left if n not in (a, b, c)]
+            if turn_at > 0 and not any(in_corners(p, points[a], points[b], points[c]) for p in others):
+                ears.append((b, a, c))
+        b, a, c = min(ears)
+        told += [a, b, c]
+        left.remove(b)
+    return [len(points) - 2] + told + left

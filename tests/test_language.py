@@ -200,6 +200,8 @@ def faults_of_walks(tree):
             if isinstance(node.func, ast.Name) and node.func.id in WALKERS:
                 walked.extend(node.args)
             called.extend(word.value for word in node.keywords if word.arg == "key")
+            if isinstance(node.func, ast.Name) and node.func.id == "isinstance":
+                called.extend(node.args[1:])
     for node in ast.walk(tree):
         if isinstance(node, ast.Call) and node not in walked:
             name = node.func.id if isinstance(node.func, ast.Name) else getattr(node.func, "attr", None)
@@ -309,6 +311,7 @@ class Checks(unittest.TestCase):
                              ("L14", "K = 1\t"), ("L15", "K = 1\nK = 2"), ("L17", "# the type of it\nK = 1"),
                              ("L20", "def f(a, b):\n    return a is b"), ("L21", "def f(a: int):\n    pass"),
                              ("L22", "def f(a):\n    b = len\n    return b(a)"),
+                             ("L22", "def f(a):\n    return isinstance(list, a)"),
                              ("L23", "def f(a):\n    b = zip(a, a)\n    return b"),
                              ("L24", "def f(a):\n    return set(a)"), ("L25", "def f(a):\n    a.sort()"),
                              ("L5", "class C:\n    k = 1"), ("L27", "K = 'a % b'")):
@@ -317,6 +320,7 @@ class Checks(unittest.TestCase):
     def test_right_code_is_passed(self):
         self.assertEqual(faults('"""Text."""\n\nK = -1\n\n\ndef f(a):\n    for k in range(3):\n'
                                 '        a.append(k)\n    return [x for x in a if x is not None]\n'), [])
+        self.assertEqual(faults("def f(a):\n    return isinstance(a, list)\n"), [])
 
 
 if __name__ == "__main__":

@@ -2,13 +2,23 @@
 
 import unittest
 
-from lines import (BAR, FAR, HUGE, NOTCH, SPOT, SQUARE, area, ask, box, clear, convex, copy, dist, flip, grow, last,
-                   put, shape, shift, tidy, turn, whole_sheet)
+from lines import (BAR, FAR, HUGE, NOTCH, SPOT, SQUARE, apart, area, ask, box, box_corners, clear, convex, copy, cover,
+                   dist, far, flip, grow, hull, inside, last, near, point, put, shape, shift, summed, tidy, touch,
+                   triangles, turn, whole_sheet)
 
+# Calls that look at a place, whatever it holds.
 ONE_PLACE = [lambda p: shift(p, 1, 1), lambda p: turn(p, 1, 0, 0), lambda p: flip(p, 0), lambda p: grow(p, 1), tidy,
-             shape, box, area, convex, lambda p: copy(p, 2), lambda p: dist(p, 0), lambda p: dist(0, p)]
+             shape, box, area, convex, lambda p: copy(p, 2), lambda p: dist(p, 0), lambda p: dist(0, p),
+             lambda p: far(p, 0), lambda p: far(0, p), lambda p: touch(p, 0), lambda p: touch(0, p),
+             lambda p: apart(p, 0, 1), lambda p: apart(0, p, 1), lambda p: point(p, 0, 0),
+             lambda p: inside(p, 10, 1), lambda p: hull(2, [p]), lambda p: hull(2, [0, p, 10]),
+             lambda p: summed(p, 0, 2), lambda p: summed(0, p, 2), near]
+# Calls that look at a place that must hold a shape of some kind.
+ONE_OF_A_KIND = [lambda p: inside(0, p, 1), lambda p: cover([p]), lambda p: cover([10, p, 10]), triangles]
+# Calls that write to a place without looking at it.
+WRITTEN = [lambda p: copy(0, p), lambda p: hull(p, [0, 1]), lambda p: summed(0, 2, p), lambda p: put(p, 0, SPOT)]
 BEYOND = (-1, 64, 65, -64, -FAR, FAR, -HUGE, HUGE)
-START = [put(0, 1, SQUARE), put(1, 2, NOTCH), put(2, 3, BAR), put(63, 4, SPOT)]
+START = [put(0, 1, SQUARE), put(1, 2, NOTCH), put(2, 3, BAR), put(63, 4, SPOT), put(10, 0, box_corners(0, 0, 9, 7))]
 
 
 class Places(unittest.TestCase):
@@ -20,15 +30,19 @@ class Places(unittest.TestCase):
 
     def test_no_such_place(self):
         for place in BEYOND:
-            for call in ONE_PLACE:
+            for call in ONE_PLACE + ONE_OF_A_KIND + WRITTEN + [clear]:
                 self.refused(call(place), -1)
-            self.refused(clear(place), -1)
-            self.refused(copy(0, place), -1)
 
     def test_an_empty_place(self):
         for place in (3, 31, 62):
-            for call in ONE_PLACE:
+            for call in ONE_PLACE + ONE_OF_A_KIND:
                 self.refused(call(place), -2)
+
+    def test_an_empty_place_may_be_written_to(self):
+        for place in (3, 62):
+            for call in WRITTEN:
+                answered = ask(*START, call(place), shape(place))[len(START):]
+                self.assertGreaterEqual(min(answered[0][0], answered[1][0]), 0)
 
     def test_the_first_and_the_last_place(self):
         for place in (0, 63):
@@ -37,7 +51,9 @@ class Places(unittest.TestCase):
 
     def test_no_such_place_comes_before_an_empty_one(self):
         for place in BEYOND:
-            for call in (copy(5, place), copy(place, 5), dist(5, place), dist(place, 5), dist(place, place)):
+            for call in (copy(5, place), copy(place, 5), dist(5, place), dist(place, 5), dist(place, place),
+                         far(5, place), touch(place, 5), apart(5, place, 0), inside(place, 5, 0), hull(place, [5]),
+                         hull(5, [5, place]), summed(5, 5, place), summed(5, place, 5), cover([5, 63, place])):
                 self.refused(call, -1)
         self.refused(dist(5, 6), -2)
         self.refused(dist(5, 5), -2)
@@ -50,6 +66,12 @@ class Places(unittest.TestCase):
             self.refused(turn(place, 1, HUGE, HUGE), number)
             self.refused(flip(place, -HUGE), number)
             self.refused(grow(place, -HUGE), number)
+            self.refused(apart(0, place, -HUGE), number)
+            self.refused(point(place, HUGE, HUGE), number)
+            self.refused(inside(place, 63, HUGE), number)
+            self.refused(inside(0, place, 0), number)
+            self.refused(summed(1, place, 0), number)
+            self.refused(cover([63, place]), number)
 
 
 class Clear(unittest.TestCase):

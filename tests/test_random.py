@@ -4,11 +4,16 @@ import math
 import random
 import unittest
 
-from lines import (FAR, HUGE, ask, cross, dist_by_fractions, flat, form_by_trial, minus, pairs, put, segments,
-                   simple_by_fractions)
+from fractions import Fraction
 
-# How many whole numbers each call has, put's row left out.
-LENGTHS = {0: 2, 1: 1, 2: 2, 3: 3, 4: 4, 5: 2, 6: 2, 7: 1, 8: 1, 9: 1, 10: 1, 11: 1, 12: 2}
+from lines import (FAR, HUGE, ask, box_corners, cover, cover_by_cells, cross, dist_by_fractions, dot, flat,
+                   form_by_trial, hull, hull_by_wrapping, inside_by_fractions, minus, pairs, put, segments,
+                   simple_by_fractions, sums, triangles_by_words, where_by_fractions)
+
+# How many whole numbers each call has, and with how many places it begins; rows are left out.
+LENGTHS = {0: 2, 1: 1, 2: 2, 3: 3, 4: 4, 5: 2, 6: 2, 7: 1, 8: 1, 9: 1, 10: 1, 11: 1, 12: 2, 13: 2, 14: 2, 15: 3,
+           16: 3, 17: 3, 19: 3, 20: 1, 21: 1, 23: 1, 24: 0}
+PLACES = {2: 2, 12: 2, 13: 2, 14: 2, 15: 2, 17: 2, 19: 3, 21: 0, 24: 0}
 
 
 class Model:
@@ -19,10 +24,10 @@ class Model:
 
     def answer(self, call):
         number, given = call[0], call[1:]
-        told = given[:2] if number in (2, 12) else given[:1]
+        told = {18: given[:1] + given[2:], 22: given[1:]}.get(number, given[:PLACES.get(number, 1)])
         if any(place not in range(64) for place in told):
             return [-1]
-        looked_at = {0: [], 1: [], 2: told[:1]}.get(number, told)
+        looked_at = {0: [], 1: [], 2: told[:1], 18: told[1:], 19: told[:2]}.get(number, told)
         if any(place not in self.held for place in looked_at):
             return [-2]
         return getattr(self, f"call{number}")(*given)
@@ -102,6 +107,85 @@ class Model:
     def call12(self, i, j):
         return dist_by_fractions(self.held[i][1], self.held[j][1])
 
+    def call13(self, i, j):
+        return [max(dot(minus(p, q), minus(p, q)) for p in self.held[i][1] for q in self.held[j][1])]
+
+    def square(self, i, j):
+        return Fraction(*dist_by_fractions(self.held[i][1], self.held[j][1]))
+
+    def call14(self, i, j):
+        return [int(self.square(i, j) <= (self.held[i][0] + self.held[j][0]) ** 2)]
+
+    def call15(self, i, j, c):
+        if c not in range(1, FAR + 1):
+            return [-8]
+        return [int(self.square(i, j) >= (self.held[i][0] + self.held[j][0] + c) ** 2)]
+
+    def call16(self, place, x, y):
+        if max(abs(x), abs(y)) > FAR:
+            return [-6]
+        return [where_by_fractions(*self.held[place], (x, y))]
+
+    def call17(self, i, j, m):
+        r, polygon = self.held[j]
+        if r != 0 or len(polygon) < 3:
+            return [-3]
+        if m not in range(1, FAR + 1):
+            return [-8]
+        return [inside_by_fractions(*self.held[i], polygon, m)]
+
+    def call18(self, to, count, *places):
+        if count == 0:
+            return [-5]
+        return self.wrap(to, 0, [p for place in places for p in self.held[place][1]])
+
+    def wrap(self, to, r, points):
+        corners = hull_by_wrapping(points)
+        if len(corners) > 32:
+            return [-5]
+        answer = self.keep(to, r, corners)
+        return [len(corners)] if answer == [0] else answer
+
+    def call19(self, i, j, to):
+        if 0 in self.call11(i) + self.call11(j):
+            return [-3]
+        r = self.held[i][0] + self.held[j][0]
+        if r > FAR:
+            return [-4]
+        return self.wrap(to, r, sums(self.held[i][1], self.held[j][1]))
+
+    def call20(self, place):
+        found = [(self.square(place, other), other) for other in self.held if other != place]
+        if not found:
+            return [-9]
+        square, other = min(found)
+        return [other, square.numerator, square.denominator]
+
+    def call21(self, c):
+        if c not in range(1, FAR + 1):
+            return [-8]
+        found = [(i, j) for i in sorted(self.held) for j in sorted(self.held) if i < j and self.call15(i, j, c) == [0]]
+        return [len(found)] + flat(found)
+
+    def call22(self, count, *places):
+        boxes = []
+        for place in places:
+            r, points = self.held[place]
+            (left, low), (right, high) = min(points), max(points)
+            if r != 0 or sorted(points) != sorted({(x, y) for x in (left, right) for y in (low, high)}):
+                return [-3]
+            if len(points) != 4:
+                return [-3]
+            boxes.append((left, low, right, high))
+        return [cover_by_cells(boxes)]
+
+    def call23(self, place):
+        points = self.held[place][1]
+        return triangles_by_words(points) if len(points) > 2 else [-3]
+
+    def call24(self):
+        return [len(self.held)] + sorted(self.held)
+
 
 def drawn_points(chance, size):
     """Points of a skeleton, or nearly of one."""
@@ -131,23 +215,37 @@ def drawn_place(chance):
     return chance.choice([0, 1, 2, 3, 62, 63])
 
 
-def drawn_put(chance, size):
-    r = chance.choice([0, 1, 5, FAR]) if chance.random() < 0.98 else drawn_number(chance, size)
+def drawn_put(chance, size, place=None):
+    r = chance.choice([0, 0, 0, 1, 5, size]) if chance.random() < 0.98 else drawn_number(chance, size)
     numbers = flat(drawn_points(chance, size))
     if chance.random() < 0.02:
         numbers.append(7)
     if chance.random() < 0.02:
         numbers[chance.randrange(len(numbers))] = drawn_number(chance, size)
-    return put(drawn_place(chance), r, numbers)
+    return put(drawn_place(chance) if place is None else place, r, numbers)
+
+
+def drawn_box(chance, size):
+    """A call that puts a box, told from any corner and either way round."""
+    xs = [chance.randint(-size, size - 1) for k in range(2)]
+    ys = [chance.randint(-size, size - 1) for k in range(2)]
+    corners = pairs(box_corners(min(xs), min(ys), max(xs) + 1, max(ys) + 1))
+    k = chance.randrange(4)
+    return put(drawn_place(chance), 0, flat((corners[k:] + corners[:k])[::chance.choice([1, -1])]))
 
 
 def drawn_call(chance, size):
-    number = chance.choice([0, 0, 0, 0, 1, 2, 3, 4, 5, 6, 7, 8, 8, 8, 9, 10, 11, 12, 12, 12])
+    number = chance.choice([0] * 8 + list(range(1, 25)) + [8] * 3 + list(range(12, 25)))
     if number == 0:
-        return drawn_put(chance, size)
-    call = [number, drawn_place(chance)]
+        return drawn_box(chance, size) if chance.random() < 0.3 else drawn_put(chance, size)
+    row = [drawn_place(chance) for k in range(chance.choice([0, 1, 1, 2, 2, 2, 3, 4]))]
+    if number == 18:
+        return hull(drawn_place(chance), row)
+    if number == 22:
+        return cover(row)
+    call = [number]
     while len(call) <= LENGTHS[number]:
-        call.append(drawn_place(chance) if number in (2, 12) else drawn_number(chance, size))
+        call.append(drawn_place(chance) if len(call) <= PLACES.get(number, 1) else drawn_number(chance, size))
     return call
 
 
@@ -155,7 +253,9 @@ class ByChance(unittest.TestCase):
     def check_lines(self, seed, size, lines, length):
         chance = random.Random(seed)
         for line in range(lines):
-            calls = [drawn_call(chance, size) for k in range(length)]
+            # Most places hold a shape at first, so that few calls are refused for an empty one.
+            calls = [drawn_put(chance, size, place) for place in (0, 1, 2, 3, 62, 63)]
+            calls += [drawn_call(chance, size) for k in range(length)]
             answered = ask(*calls)
             model = Model()
             for call, answer in zip(calls, answered):
